@@ -1,0 +1,1 @@
+"""Stalkweb: spaces over a web, and what agrees along all ties."""
