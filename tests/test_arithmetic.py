@@ -35,7 +35,8 @@ class Arithmetic(unittest.TestCase):
                 one, other = chance_number(chance, field, 3), chance_number(chance, field, 3)
                 total = number(field, one[0] * other[1] + other[0] * one[1], one[1] * other[1])
                 self.assertEqual(arithmetic.added(field, one, other), total)
-                self.assertEqual(arithmetic.multiplied(field, one, other), number(field, one[0] * other[0], one[1] * other[1]))
+                product = number(field, one[0] * other[0], one[1] * other[1])
+                self.assertEqual(arithmetic.multiplied(field, one, other), product)
                 self.assertEqual(arithmetic.negative(field, one), number(field, -one[0], one[1]))
                 if one[0] != 0:
                     self.assertEqual(arithmetic.flipped(field, one), number(field, one[1], one[0]))

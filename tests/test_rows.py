@@ -37,7 +37,8 @@ def many_rows():
 def great_rows(field):
     """Rows of forty numbers of some hundred figures, one a sum of multiples of the others."""
     lines = [
-        tuple(number(0, great(300, 50 * line + place), great(20, place + 7)) for place in range(40)) for line in range(2)
+        tuple(number(0, great(300, 50 * line + place), great(20, place + 7)) for place in range(40))
+        for line in range(2)
     ]
     if field != 0:
         lines = [tuple(made(field, top) for top, bottom in line) for line in lines]
@@ -153,7 +154,8 @@ class Reduced(Checks):
                 lines = low_rank_rows(chance, prime, 3, 4, 2)
                 made_of = {combined(prime, weights, lines, 4) for weights in every_row(prime, 3)}
                 found = reduced(prime, lines, 4)
-                self.assertEqual({combined(prime, weights, found, 4) for weights in every_row(prime, len(found))}, made_of)
+                again = {combined(prime, weights, found, 4) for weights in every_row(prime, len(found))}
+                self.assertEqual(again, made_of)
                 self.assertEqual(prime ** rank(prime, lines, 4), len(made_of))
 
     def test_width_of_forty_and_sixty_rows(self):
@@ -196,7 +198,8 @@ class Rank(Checks):
             self.assertEqual(rank(field, lines, 40), rank(field, turned(lines, 40), 40))
         self.assertEqual(rank(0, great_rows(0), 40), 2)
         self.assertEqual(rank(0, turned(great_rows(0), 40), 3), 2)
-        self.assertEqual(rank(0, [tuple(ONE if at == place else NOUGHT for at in range(40)) for place in range(40)], 40), 40)
+        still = [tuple(ONE if at == place else NOUGHT for at in range(40)) for place in range(40)]
+        self.assertEqual(rank(0, still, 40), 40)
 
 
 class NullBase(Checks):
