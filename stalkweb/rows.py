@@ -9,10 +9,15 @@ WIDEST = 40
 MOST_ROWS = 60
 
 
-def check_shape(rows, width):
-    """Refuses a bad width, too many rows and a row of another length."""
+def check_width(width):
+    """Refuses a bad width."""
     if not 0 <= width <= WIDEST:
         raise BadShape("a width is 0 to 40")
+
+
+def check_shape(rows, width):
+    """Refuses a bad width, too many rows and a row of another length."""
+    check_width(width)
     if len(rows) > MOST_ROWS:
         raise BadShape("there are at most 60 rows")
     if any([len(row) != width for row in rows]):

@@ -19,6 +19,27 @@ INTERFACE = {
         "reduced": "(field, rows, width)", "rank": "(field, rows, width)", "null_base": "(field, rows, width)",
         "met": "(field, rows, width, ask)", "barred": "(field, rows, width, ask)",
     },
+    "tables": {
+        "lead": "(field, table, column)", "behind": "(field, table, other)", "still": "(field, room)",
+        "turned_back": "(field, table)",
+    },
+    "kept": {"Kept": "(field, width)"},
+    "webs": {
+        "is_web": "(web)", "great_rows": "(web)", "width_of": "(web)", "differences": "(web, whole)",
+        "agrees": "(web, whole)",
+    },
+    "whole": {
+        "sections": "(web)", "free": "(web)", "sum_of": "(web, factors)", "factors_of": "(web, whole)",
+        "count": "(web)", "numbered": "(web, number)", "number_of": "(web, whole)",
+    },
+}
+# Each method that has landed, in its file and class.
+METHODS = {
+    ("kept", "Kept"): {
+        "put": "(self, row)", "drop": "(self, number)", "rank": "(self)", "holds": "(self, row)",
+        "made_of": "(self, row)", "rows": "(self)", "twin": "(self)", "__len__": "(self)",
+        "__eq__": "(self, other)", "__repr__": "(self)",
+    },
 }
 LIBRARY = {"math": {"gcd"}}
 
@@ -42,8 +63,16 @@ class Interface(unittest.TestCase):
     def test_defined_in_the_file_under_which_they_are_listed(self):
         for file, names in INTERFACE.items():
             tree = ast.parse((PACKAGE / (file + ".py")).read_text(encoding="utf-8"))
-            found = {part.name for part in tree.body if isinstance(part, ast.FunctionDef)}
+            found = {part.name for part in tree.body if isinstance(part, (ast.FunctionDef, ast.ClassDef))}
             self.assertLessEqual(set(names), found)
+
+    def test_methods_are_defined_in_their_class(self):
+        for (file, kind), methods in METHODS.items():
+            listed = getattr(importlib.import_module("stalkweb." + file), kind)
+            for name, arguments in methods.items():
+                with self.subTest(file=file, name=name):
+                    self.assertIn(name, vars(listed))
+                    self.assertEqual(str(inspect.signature(getattr(listed, name))), arguments)
 
 
 class Files(unittest.TestCase):
@@ -87,6 +116,18 @@ class Files(unittest.TestCase):
                     else:
                         self.assertTrue(part.module.startswith("stalkweb."), (name, part.module))
                         self.assertTrue((PACKAGE / (part.module.split(".")[1] + ".py")).is_file())
+
+    def test_each_name_of_a_file_means_one_thing_and_is_used(self):
+        for name, tree in trees():
+            imports = [part for part in tree.body if isinstance(part, ast.ImportFrom)]
+            imported = {alias.name for part in imports for alias in part.names}
+            defined = [part.name for part in tree.body if isinstance(part, (ast.FunctionDef, ast.ClassDef))]
+            names = [part for part in ast.walk(tree) if isinstance(part, ast.Name)]
+            arguments = [part.arg for part in ast.walk(tree) if isinstance(part, ast.arg)]
+            assigned = {part.id for part in names if isinstance(part.ctx, ast.Store)} | set(arguments)
+            self.assertEqual(assigned & (imported | set(defined)), set(), name)
+            self.assertEqual(len(defined), len(set(defined) - imported), name)
+            self.assertLessEqual(imported, {part.id for part in names if isinstance(part.ctx, ast.Load)}, name)
 
     def test_no_floats(self):
         for name, tree in trees():

@@ -1,16 +1,12 @@
 import unittest
 
 from helpers import (
-    BAD_FIELDS, FIELDS, chance_number, chance_rows, combined, dot, every_row, great, led, low_rank_rows, new_chance,
-    number, plain_rank, row, rows, turned,
+    BAD_FIELDS, FIELDS, NOUGHT, ONE, SOME_FIELDS, chance_number, chance_rows, combined, dot, every_row, great, led,
+    low_rank_rows, new_chance, number, plain_rank, row, rows, turned,
 )
 from stalkweb.errors import BadField, BadNumber, BadShape
 from stalkweb.numbers import is_number, made
 from stalkweb.rows import barred, met, null_base, rank, reduced
-
-SOME_FIELDS = (0, 2, 3, 7, 97)
-NOUGHT = (0, 1)
-ONE = (1, 1)
 
 
 def leads_of(lines):
