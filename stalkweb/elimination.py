@@ -87,3 +87,9 @@ def solution(field, rows, width, ask):
 def turned(rows, width):
     """The columns of the rows as rows."""
     return [tuple([row[place] for row in rows]) for place in range(width)]
+
+
+def weights_against(field, rows, width, ask):
+    """Weights with which the rows make nought and the ask makes 1, or None."""
+    # The weights are themselves a column: one that the turned rows lead to nought and the ask to 1.
+    return solution(field, turned(rows, width) + [ask], len(rows), [NOUGHT] * width + [ONE])

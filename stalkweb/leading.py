@@ -20,14 +20,10 @@ def led(field, table, column):
     return tuple([paired(field, row, column) for row in table])
 
 
-def row_length(table):
-    """How long the rows of a table are; 0 where it has none."""
-    return len(table[0]) if table else 0
-
-
-def joined(field, table, other):
-    """The table that does first other, then table."""
-    columns = turned(other, row_length(other))
+def joined(field, table, other, length):
+    """The table that does first other, whose rows have this length, then table."""
+    # Other may have no row that tells its length: then table brings columns of so many noughts.
+    columns = turned(other, length)
     return tuple([led(field, columns, row) for row in table])
 
 

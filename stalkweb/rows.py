@@ -1,7 +1,6 @@
 """Rows reduced: their rank, their null base, and which asks are met or barred."""
 
-from stalkweb.arithmetic import NOUGHT, ONE
-from stalkweb.elimination import null_columns, solution, stepped, turned, with_leads
+from stalkweb.elimination import null_columns, solution, stepped, weights_against, with_leads
 from stalkweb.errors import BadShape
 from stalkweb.numbers import check_field, check_numbers
 
@@ -74,5 +73,4 @@ def met(field, rows, width, ask):
 def barred(field, rows, width, ask):
     """Weights with which the rows make nought and the ask makes 1, or None."""
     check_asked(field, rows, width, ask)
-    # The weights are themselves a column: one that the turned rows lead to nought and the ask to 1.
-    return solution(field, turned(rows, width) + [ask], len(rows), [NOUGHT] * width + [ONE])
+    return weights_against(field, rows, width, ask)

@@ -1,9 +1,14 @@
 """Tables: what they lead columns to, one behind the other, and turned back."""
 
 from stalkweb.errors import BadShape
-from stalkweb.leading import joined, led, row_length, still_table, undone
+from stalkweb.leading import joined, led, still_table, undone
 from stalkweb.numbers import check_field, check_numbers
 from stalkweb.rows import check_row_numbers
+
+
+def row_length(table):
+    """How long the rows of a table are; 0 where it has none."""
+    return len(table[0]) if table else 0
 
 
 def check_lengths(table, length):
@@ -28,7 +33,7 @@ def behind(field, table, other):
     check_lengths(other, row_length(other))
     check_row_numbers(field, table)
     check_row_numbers(field, other)
-    return joined(field, table, other)
+    return joined(field, table, other, row_length(other))
 
 
 def still(field, room):

@@ -1,7 +1,7 @@
 """Webs: what is one, its great rows, and where an assignment agrees."""
 
 from stalkweb.arithmetic import NOUGHT
-from stalkweb.errors import BadWeb, BadWhole
+from stalkweb.errors import BadWeb, BadWhole, NoPlace, NoTie
 from stalkweb.layout import difference, great
 from stalkweb.leading import led
 from stalkweb.numbers import check_field, fits
@@ -15,6 +15,11 @@ MOST_FIGURE = 99
 def is_room(room):
     """Whether a place or a tie may have this room."""
     return 0 <= room <= MOST_ROOM
+
+
+def is_place(sizes, place):
+    """Whether this is one of the places of these rooms."""
+    return 0 <= place < len(sizes)
 
 
 def is_short(field, number):
@@ -33,16 +38,21 @@ def is_table(field, table, room, length):
 def is_tie(field, sizes, tie):
     """Whether this is a tie between places of these rooms."""
     one, other, room, first, second = tie
-    if not (0 <= one < len(sizes) and 0 <= other < len(sizes) and is_room(room)):
+    if not (is_place(sizes, one) and is_place(sizes, other) and is_room(room)):
         return False
     return is_table(field, first, room, sizes[one]) and is_table(field, second, room, sizes[other])
 
 
+def is_column(field, room, column):
+    """Whether this is a column of numbers of the room."""
+    return len(column) == room and all([fits(field, number) for number in column])
+
+
 def are_columns(field, rooms, columns):
     """Whether these are columns of numbers, one for each of the rooms."""
-    if len(columns) != len(rooms) or any([len(column) != room for column, room in zip(columns, rooms)]):
+    if len(columns) != len(rooms):
         return False
-    return all([fits(field, number) for column in columns for number in column])
+    return all([is_column(field, room, column) for room, column in zip(rooms, columns)])
 
 
 def check_web(web):
@@ -55,6 +65,18 @@ def check_whole(web, whole):
     """Refuses what is no assignment of the web."""
     if not are_columns(web[0], web[1], whole):
         raise BadWhole("an assignment has a column of numbers for each place, of its room")
+
+
+def check_place(web, place):
+    """Refuses the number of no place."""
+    if not is_place(web[1], place):
+        raise NoPlace("there is no place of this number")
+
+
+def check_tie(web, tie):
+    """Refuses the number of no tie."""
+    if not 0 <= tie < len(web[2]):
+        raise NoTie("there is no tie of this number")
 
 
 def is_web(web):

@@ -49,6 +49,12 @@ class Elimination(unittest.TestCase):
         self.assertEqual(elimination.solution(0, rows(0, (2, 4)), 2, row(0, 3)), row(0, (3, 2), 0))
         self.assertIsNone(elimination.solution(0, rows(0, (1, 1), (2, 2)), 2, row(0, 1, 1)))
 
+    def test_weights_against(self):
+        self.assertEqual(elimination.weights_against(0, rows(0, (1, 1), (2, 2)), 2, row(0, 1, 3)), row(0, -2, 1))
+        self.assertEqual(elimination.weights_against(5, [(), ()], 0, row(5, 0, 2)), row(5, 0, 3))
+        self.assertIsNone(elimination.weights_against(0, rows(0, (1, 1), (2, 2)), 2, row(0, 1, 2)))
+        self.assertIsNone(elimination.weights_against(0, [], 2, ()))
+
     def test_turned(self):
         self.assertEqual(elimination.turned(rows(3, (1, 2), (0, 1)), 2), rows(3, (1, 0), (2, 1)))
         self.assertEqual(elimination.turned([], 2), [(), ()])

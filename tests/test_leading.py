@@ -3,7 +3,7 @@ import unittest
 from helpers import (
     NOUGHT, SOME_FIELDS, chance_stiff_table, chance_table, led as told_led, new_chance, plain_rank, row, table, unit,
 )
-from stalkweb.leading import joined, led, paired, row_length, still_table, undone
+from stalkweb.leading import joined, led, paired, still_table, undone
 
 
 class Leading(unittest.TestCase):
@@ -18,9 +18,6 @@ class Leading(unittest.TestCase):
         self.assertEqual(led(0, ((), ()), ()), (NOUGHT, NOUGHT))
         self.assertEqual(led(0, table(0, (1, 2), (0, -1)), row(0, 3, 4)), row(0, 11, -4))
 
-    def test_row_length(self):
-        self.assertEqual([row_length(lines) for lines in ((), ((),), table(2, (1, 0, 1)))], [0, 0, 3])
-
     def test_joined(self):
         chance = new_chance(31)
         for field in SOME_FIELDS:
@@ -28,8 +25,15 @@ class Leading(unittest.TestCase):
                 one = chance_table(chance, field, rows, between)
                 other = chance_table(chance, field, between, length)
                 for column in unit(length):
-                    told = led(field, joined(field, one, other), column)
-                    self.assertEqual(told, led(field, one, led(field, other, column)))
+                    both = joined(field, one, other, length)
+                    self.assertEqual([len(line) for line in both], [length] * rows)
+                    self.assertEqual(led(field, both, column), led(field, one, led(field, other, column)))
+
+    def test_joined_where_the_other_has_no_rows(self):
+        for field in SOME_FIELDS:
+            self.assertEqual(joined(field, ((), ()), (), 3), ((NOUGHT,) * 3,) * 2)
+            self.assertEqual(joined(field, ((), ()), (), 0), ((), ()))
+            self.assertEqual(joined(field, (), (), 3), ())
 
     def test_still_table(self):
         for room in range(4):

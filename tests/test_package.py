@@ -32,6 +32,13 @@ INTERFACE = {
         "sections": "(web)", "free": "(web)", "sum_of": "(web, factors)", "factors_of": "(web, whole)",
         "count": "(web)", "numbered": "(web, number)", "number_of": "(web, whole)",
     },
+    "gaps": {"bars": "(web)", "gap": "(web)", "meets": "(web, asks)", "stands_against": "(web, asks)"},
+    "sayings": {"goes_on": "(web, sayings)", "against": "(web, sayings)"},
+    "rings": {"pieces": "(web)", "wood": "(web)", "ring": "(web, tie)", "way": "(web, place, other)"},
+    "goings": {
+        "gone": "(web, place, column, steps)", "turning": "(web, place, steps)", "is_stiff": "(web)",
+        "kept_columns": "(web, place)",
+    },
 }
 # Each method that has landed, in its file and class.
 METHODS = {
