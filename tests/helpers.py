@@ -123,6 +123,15 @@ class Case(unittest.TestCase):
         for name, worth in fields.items():
             self.assertEqual(getattr(caught.exception, name), worth)
 
+    def answers_stay(self, *calls):
+        """Changing the list that a call tells changes no later answer of it."""
+        for call in calls:
+            told = call()
+            again = list(told)
+            told.append(3)
+            told[0] = None
+            self.assertEqual(call(), again)
+
     def is_list_of_columns(self, told, rooms):
         """What is told is a list of tuples of pairs, of these rooms."""
         self.assertIs(told.__class__, list)

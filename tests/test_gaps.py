@@ -170,15 +170,10 @@ class HandedInAndTold(Case):
         self.assertEqual(bad, [row(0, 3), ((2, 2),)])
 
     def test_changing_a_told_list_changes_no_later_answer(self):
-        for call in (
+        self.answers_stay(
             lambda: bars(TWICE), lambda: bars(TWICE)[0], lambda: meets(TWICE, [row(0, 3), row(0, 6)]),
             lambda: stands_against(TWICE, [row(0, 3), row(0, 5)]),
-        ):
-            told = call()
-            again = list(told)
-            told[0] = None
-            told.append(3)
-            self.assertEqual(call(), again)
+        )
 
     def test_by_name(self):
         asks = [row(0, 3), row(0, 6)]

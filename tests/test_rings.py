@@ -174,15 +174,10 @@ class Way(Along):
 
 class HandedInAndTold(Case):
     def test_changing_a_told_list_changes_no_later_answer(self):
-        for call in (
+        self.answers_stay(
             lambda: pieces(WEB), lambda: pieces(WEB)[0], lambda: wood(WEB), lambda: ring(WEB, 4),
             lambda: way(WEB, 0, 2),
-        ):
-            told = call()
-            again = list(told)
-            told[0] = None
-            told.append(3)
-            self.assertEqual(call(), again)
+        )
         for call in (lambda: ring(WEB, 0), lambda: way(WEB, 5, 5), lambda: wood(bare_web(1))):
             call().append(3)
             self.assertEqual(call(), [])

@@ -282,15 +282,10 @@ class HandedInAndTold(Case):
 
     def test_changing_a_told_list_changes_no_later_answer(self):
         whole, factors = [row(5, 2), row(5, 3)], [(3, 1)]
-        for call in (
+        self.answers_stay(
             lambda: sections(EVEN), lambda: sections(EVEN)[0], lambda: sum_of(EVEN, factors),
             lambda: factors_of(EVEN, whole), lambda: numbered(EVEN, 3),
-        ):
-            told = call()
-            again = list(told)
-            told[0] = None
-            told.append(3)
-            self.assertEqual(call(), again)
+        )
         self.assertEqual((whole, factors), ([row(5, 2), row(5, 3)], [(3, 1)]))
 
     def test_by_name(self):
