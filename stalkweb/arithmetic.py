@@ -40,7 +40,12 @@ def added(field, one, other):
     """The sum of two numbers."""
     if field != 0:
         return ((one[0] + other[0]) % field, 1)
-    return lowest(field, one[0] * other[1] + other[0] * one[1], one[1] * other[1])
+    # Only what both bottoms share can be in the sum's top too: far less to divide out of great numbers.
+    shared = gcd(one[1], other[1])
+    part = one[1] // shared
+    top = one[0] * (other[1] // shared) + other[0] * part
+    common = gcd(top, shared)
+    return (top // common, part * (other[1] // common))
 
 
 def multiplied(field, one, other):

@@ -12,6 +12,12 @@ def check_asks(web, asks):
         raise BadAsk("asks have a column of numbers for each tie, of its room")
 
 
+def gap_count(web):
+    """How many lists of weights the base of gaps has."""
+    rows = great(web)
+    return len(rows) - len(stepped(web[0], rows, sum(web[1])))
+
+
 def bars(web):
     """The base of gaps: weights of the ties with which the great rows make nought."""
     check_web(web)
@@ -22,8 +28,7 @@ def bars(web):
 def gap(web):
     """The gap count: how many lists of weights the base of gaps has."""
     check_web(web)
-    rows = great(web)
-    return len(rows) - len(stepped(web[0], rows, sum(web[1])))
+    return gap_count(web)
 
 
 def meets(web, asks):

@@ -1,11 +1,13 @@
 """What several tests share: numbers, rows and webs made by a plain reckoning of their own, and refusals."""
 
 import unittest
+from copy import deepcopy
 from fractions import Fraction
 from itertools import product
 from random import Random
 
-from stalkweb.errors import BadField, BadWeb
+from stalkweb.errors import BadField, BadWeb, Missing, WebError
+from stalkweb.whole import sections
 
 PRIMES = (2, 3, 5, 7, 11, 13, 17, 19, 23, 29, 31, 37, 41, 43, 47, 53, 59, 61, 67, 71, 73, 79, 83, 89, 97)
 FIELDS = (0,) + PRIMES
@@ -132,6 +134,15 @@ class Case(unittest.TestCase):
             told[0] = None
             self.assertEqual(call(), again)
 
+    def stays_as_it_was(self, call, *given):
+        """What is handed in is not changed, whether the call tells something or refuses."""
+        before = deepcopy(given)
+        try:
+            call(*given)
+        except (WebError, Missing):
+            pass
+        self.assertEqual(given, before)
+
     def is_list_of_columns(self, told, rooms):
         """What is told is a list of tuples of pairs, of these rooms."""
         self.assertIs(told.__class__, list)
@@ -231,6 +242,12 @@ def wide_even_web(field):
     return (field, (3,) * 8, tuple(ties))
 
 
+def chance_section(chance, web, figures=1):
+    """A section with chance factors of the base."""
+    base = sections(web)
+    return summed(web[0], [chance_number(chance, web[0], figures) for _ in base], base, web[1])
+
+
 def small_webs(seed, primes=(2, 3)):
     """Webs by small primes, of which all assignments can be gone through."""
     chance = new_chance(seed)
@@ -307,6 +324,21 @@ def bad_webs(field):
         found.append((field, sizes, ()))
     found.append((field, (1, 2), (good,) * 13))
     found.append((field, (0,), ((0, 0, 0, (), ()),) * 13))
+    return found
+
+
+def bad_wholes(web):
+    """Lists of columns that are no assignments of this web, bent in one thing alone each."""
+    field, sizes, ties = web
+    good = [noughts(room) for room in sizes]
+    found = [good + [()], good + [(ONE,)], good[:-1], []]
+    for place in range(len(sizes)):
+        columns = [good[place] + (NOUGHT,)]
+        if sizes[place]:
+            columns.append(good[place][1:])
+            columns += [good[place][1:] + (bad,) for bad in bad_numbers(field)]
+            columns += [(bad,) + good[place][1:] for bad in bad_numbers(field)]
+        found += [good[:place] + [column] + good[place + 1:] for column in columns]
     return found
 
 

@@ -41,6 +41,16 @@ class Arithmetic(unittest.TestCase):
                 if one[0] != 0:
                     self.assertEqual(arithmetic.flipped(field, one), number(field, one[1], one[0]))
 
+    def test_sums_of_fractions_that_share_parts_of_their_bottoms(self):
+        bottoms = [1, 2, 3, 4, 6, 12, 35, 36, 10 ** 40, 6 ** 50, 7 * 10 ** 40]
+        for bottom in bottoms:
+            for other in bottoms:
+                for top, top_other in ((1, 1), (-1, 1), (5, -7), (0, 3), (10 ** 41 + 1, -(10 ** 41)), (11, 13)):
+                    one, two = number(0, top, bottom), number(0, top_other, other)
+                    told = number(0, one[0] * two[1] + two[0] * one[1], one[1] * two[1])
+                    self.assertEqual(arithmetic.added(0, one, two), told)
+                    self.assertEqual(arithmetic.added(0, one, arithmetic.negative(0, one)), (0, 1))
+
 
 if __name__ == "__main__":
     unittest.main()

@@ -39,6 +39,16 @@ INTERFACE = {
         "gone": "(web, place, column, steps)", "turning": "(web, place, steps)", "is_stiff": "(web)",
         "kept_columns": "(web, place)",
     },
+    "parts": {
+        "view": "(web, places)", "seen": "(web, places, whole)", "covers": "(web, one, other)",
+        "glued": "(web, one, other, left, right)", "joining": "(web, one, other)",
+    },
+    "drawn": {"drawn": "(web, tie)", "drawn_back": "(web, tie, whole)", "between": "(web, tie)"},
+    "nearest": {"square": "(field, whole)", "nearest": "(web, whole)"},
+    "maps": {
+        "is_map": "(web, other, tables, tie_tables)", "mapped": "(web, other, tables, tie_tables, whole)",
+        "both": "(field, one, other)",
+    },
 }
 # Each method that has landed, in its file and class.
 METHODS = {

@@ -1,7 +1,7 @@
 import unittest
 
 from helpers import (
-    BAD_FIELDS, NOUGHT, ONE, PRIMES, SOME_FIELDS, Case, agreeing, bad_numbers, bad_webs, chance_whole, every_columns,
+    BAD_FIELDS, ONE, PRIMES, SOME_FIELDS, Case, agreeing, bad_webs, bad_wholes, chance_whole, every_columns,
     flat, hold_web_refusals, led, many_webs, new_chance, noughts, number, rooms_of_ties, row, small_webs, table,
     told_differences, unit, wide_even_web, widest_web,
 )
@@ -9,21 +9,6 @@ from stalkweb.errors import BadField, BadWhole
 from stalkweb.webs import agrees, differences, great_rows, is_web, width_of
 
 WEB = (0, (1, 2), ((0, 1, 1, table(0, (2,)), table(0, (1, (-1, 3)))), (1, 1, 2, unit(2), table(0, (0, 1), (1, 0)))))
-
-
-def bad_wholes(web):
-    """Lists of columns that are no assignments of this web, bent in one thing alone each."""
-    field, sizes, ties = web
-    good = [noughts(room) for room in sizes]
-    found = [good + [()], good + [(ONE,)], good[:-1], []]
-    for place in range(len(sizes)):
-        columns = [good[place] + (NOUGHT,)]
-        if sizes[place]:
-            columns.append(good[place][1:])
-            columns += [good[place][1:] + (bad,) for bad in bad_numbers(field)]
-            columns += [(bad,) + good[place][1:] for bad in bad_numbers(field)]
-        found += [good[:place] + [column] + good[place + 1:] for column in columns]
-    return found
 
 
 class IsWeb(Case):
