@@ -8,7 +8,7 @@ from pathlib import Path
 
 PACKAGE = Path(__file__).resolve().parent.parent / "stalkweb"
 
-# Each function that has landed, in its file, with its arguments as the document shows them.
+# Each function and class of the interface but the refusals, in its file, with its arguments as the document shows them.
 INTERFACE = {
     "numbers": {
         "is_field": "(field)", "is_number": "(field, number)", "made": "(field, top, bottom=1)",
@@ -49,14 +49,26 @@ INTERFACE = {
         "is_map": "(web, other, tables, tie_tables)", "mapped": "(web, other, tables, tie_tables, whole)",
         "both": "(field, one, other)",
     },
+    "book": {"Book": "(field=0)"},
+    "texts": {"deed_text": "(deed)", "read_deed": "(field, text)"},
+    "pages": {"page": "(book)", "read_page": "(text)"},
+    "desk": {"Desk": "(field=0)"},
 }
-# Each method that has landed, in its file and class.
+# Each method of the interface, in its file and class.
 METHODS = {
     ("kept", "Kept"): {
         "put": "(self, row)", "drop": "(self, number)", "rank": "(self)", "holds": "(self, row)",
         "made_of": "(self, row)", "rows": "(self)", "twin": "(self)", "__len__": "(self)",
         "__eq__": "(self, other)", "__repr__": "(self)",
     },
+    ("book", "Book"): {
+        "do": "(self, deed)", "undo": "(self)", "redo": "(self)", "deeds": "(self)", "places": "(self)",
+        "ties": "(self)",
+        "said": "(self)", "web": "(self)", "sayings": "(self)", "free": "(self)", "gap": "(self)", "sections": "(self)",
+        "goes_on": "(self)", "against": "(self)", "twin": "(self)", "__len__": "(self)", "__eq__": "(self, other)",
+        "__str__": "(self)", "__repr__": "(self)",
+    },
+    ("desk", "Desk"): {"say": "(self, line)", "book": "(self)"},
 }
 LIBRARY = {"math": {"gcd"}}
 
